@@ -1,0 +1,1 @@
+"""Trays of pieces with one empty place, and the slides between them."""
