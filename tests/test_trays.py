@@ -8,24 +8,13 @@ import unittest
 from slidetray import trays
 from slidetray.errors import BadSlides, BadTray
 from slidetray.trays import moved, thinned, undone, ways
+from tests.samples import (
+    COLUMN, LETTERS, ONE, ROW, SQUARE, numbered, plainly_moved, sides, texts,
+    wrong_trays,
+)
 
-LETTERS = "udlr"
 PAIRS = ("ud", "du", "lr", "rl")
 
-ONE = [[0]]
-SQUARE = [[1, 2, 3], [4, 0, 5], [6, 7, 8]]
-ROW = [[1, 2, 0, 3, 4, 5]]
-COLUMN = [[1], [2], [0], [3], [4], [5]]
-
-NO_LISTS = [
-    None, True, False, 0, 3, -1, 1.5, 2j, "", "01", "0\n1", b"", b"01",
-    (), (0, 1), ([0, 1],), {}, {0: [0, 1]}, set(), {0}, frozenset(),
-    range(2), iter([[0]]), object(), list, len, bytearray(b"01"),
-]
-NO_NUMBERS = [
-    None, True, False, 0.0, 1.0, 1j, float("nan"), "0", "1", "", b"1",
-    [], [1], (), (1,), {}, {1: 1}, set(), {1}, range(1), object(), int, len,
-]
 NO_TEXTS = [
     None, True, False, 0, 1, 1.5, b"", b"u", bytearray(b"u"), [], ["u"],
     ["u", "d"], (), ("u",), {}, {"u": "d"}, set(), {"u"}, frozenset("u"),
@@ -38,94 +27,12 @@ NO_SLIDES = [
 ]
 
 
-def numbered(rows, columns, empty=0):
-    """A tray of these sides, its pieces in turn, with 0 at one place."""
-    pieces = list(range(1, rows * columns))
-    pieces.insert(empty, 0)
-    return [pieces[row * columns:(row + 1) * columns] for row in range(rows)]
-
-
-def texts(most):
-    """All slides of up to so many letters."""
-    for many in range(most + 1):
-        for letters in itertools.product(LETTERS, repeat=many):
-            yield "".join(letters)
-
-
-def sides():
-    return itertools.product(range(1, 7), range(1, 7))
-
-
-def plainly_moved(tray, slides):
-    """Like moved, in one flat list; None where a slide leads off."""
-    columns = len(tray[0])
-    flat = [number for row in tray for number in row]
-    for letter in slides:
-        at = flat.index(0)
-        barred = {
-            "u": at < columns,
-            "d": at >= len(flat) - columns,
-            "l": at % columns == 0,
-            "r": at % columns == columns - 1,
-        }[letter]
-        if barred:
-            return None
-        to = at + {"u": -columns, "d": columns, "l": -1, "r": 1}[letter]
-        flat[at], flat[to] = flat[to], 0
-    return [flat[at:at + columns] for at in range(0, len(flat), columns)]
-
-
 def taken_out(slides, turn):
     """Thinned by taking out one pair after the other, in a given turn."""
     while any(pair in slides for pair in turn):
         for pair in turn:
             slides = slides.replace(pair, "", 1)
     return slides
-
-
-def wrong_trays():
-    """What is no tray, each with a few words that say why."""
-    for thing in NO_LISTS:
-        yield "no list: %r" % (thing,), thing
-        yield "a row that is none: %r" % (thing,), [thing]
-        yield "a last row that is none: %r" % (thing,), [[0, 1], thing]
-        yield "a first row that is none: %r" % (thing,), [thing, [0, 1]]
-    for thing in NO_NUMBERS:
-        yield "no number: %r" % (thing,), [[thing]]
-        yield "no number behind 0: %r" % (thing,), [[0, thing]]
-        yield "no number before 0: %r" % (thing,), [[thing, 0]]
-        yield "no number below: %r" % (thing,), [[1, 0], [2, thing]]
-    yield "True for 1", [[0, True]]
-    yield "False for 0", [[False, 1]]
-    yield "True for 1 below", [[0, 2], [True, 3]]
-    yield "no rows", []
-    yield "a row of none", [[]]
-    yield "rows of none", [[], []]
-    yield "seven rows", numbered(7, 1)
-    yield "seven rows of two", numbered(7, 2)
-    yield "seven columns", numbered(1, 7)
-    yield "two rows of seven", numbered(2, 7)
-    yield "seven by seven", numbered(7, 7)
-    yield "a shorter row", [[0, 1], [2]]
-    yield "a longer row", [[0], [1, 2]]
-    yield "a row of none among others", [[0, 1], []]
-    yield "a shorter row in the middle", [[0, 1, 2], [3, 4], [5, 6, 7]]
-    yield "a longer last row", [[0, 1], [2, 3], [4, 5, 6]]
-    yield "unlike, as many as two rows of two", [[0, 1, 2], [3]]
-    yield "a number twice", [[0, 1], [1, 2]]
-    yield "0 twice", [[0, 0]]
-    yield "0 twice below", [[0, 1], [2, 0]]
-    yield "no 0", [[1, 2], [3, 4]]
-    yield "no 0, one place", [[1]]
-    yield "a number missing", [[0, 1], [2, 4]]
-    yield "1 missing", [[0, 2]]
-    yield "below 0", [[0, -1]]
-    yield "below 0 for 0", [[-1, 1], [2, 3]]
-    yield "a great number", [[0, 10 ** 30]]
-    yield "a tray of trays", [[[0]]]
-    own = []
-    own.append(own)
-    yield "a list that holds itself", own
 
 
 class Trays(unittest.TestCase):
